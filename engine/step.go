@@ -1,0 +1,70 @@
+package engine
+
+import "pivot/api"
+
+// do does the step; the run stands behind it already.
+func (r *Run) do(s api.Step) {
+	switch s.Op {
+	case api.Put:
+		value := r.register(s.B)
+		r.view.Put(s.A, value)
+	case api.Del:
+		r.view.Delete(s.A)
+	case api.Skip:
+		if r.register(s.A) == 0 {
+			r.at += s.B
+		}
+	case api.Back:
+		if r.register(s.A) != 0 {
+			r.at -= s.B + 1
+		}
+	case api.Emit:
+		value := r.register(s.A)
+		r.told = append(r.told, value)
+	case api.Undo:
+		r.state = api.Undone
+	default:
+		number := r.number(s)
+		r.become(s.A, number)
+	}
+}
+
+// number is what register A becomes at a step that sets it, be it a value or
+// not.
+func (r *Run) number(s api.Step) int {
+	a := r.register(s.A)
+	switch s.Op {
+	case api.Const:
+		return s.B
+	case api.Get:
+		return r.view.Value(s.B)
+	case api.Sum:
+		return r.view.Sum(s.B, s.C)
+	case api.Count:
+		return r.view.Count(s.B, s.C)
+	case api.Add:
+		return a + r.register(s.B)
+	case api.Sub:
+		return a - r.register(s.B)
+	}
+	return a
+}
+
+// become sets a register; a number that is no value is a fault.
+func (r *Run) become(register, number int) {
+	if number < 0 || number > api.MaxValue {
+		r.state = api.Faulted
+		return
+	}
+	if register >= 0 && register < api.Regs {
+		r.registers[register] = number
+	}
+}
+
+// register is the value of a register.
+func (r *Run) register(register int) int {
+	if register < 0 || register >= api.Regs {
+		return 0
+	}
+	return r.registers[register]
+}
