@@ -14,6 +14,7 @@ type Run struct {
 	done      int // how many steps it has done
 	registers [api.Regs]int
 	view      store.Map
+	wrote     [api.Keys]bool // the keys that it put or deleted
 	told      []int
 }
 
@@ -32,9 +33,18 @@ func (r *Run) Told() []int {
 	return append([]int{}, r.told...)
 }
 
-// View is the map as the run sees it.
-func (r *Run) View() store.Map {
-	return r.view
+// Apply does to m what the run put and deleted, if it ended as Committed. The
+// other keys stay as they are in m: others may have changed them since the run
+// began.
+func (r *Run) Apply(m *store.Map) {
+	if r.state != api.Committed {
+		return
+	}
+	for key, wrote := range r.wrote {
+		if wrote {
+			m.Take(key, &r.view)
+		}
+	}
 }
 
 // Next lets the run end, or do the step at which it stands. The steps must be

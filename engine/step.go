@@ -8,8 +8,10 @@ func (r *Run) do(s api.Step) {
 	case api.Put:
 		value := r.register(s.B)
 		r.view.Put(s.A, value)
+		r.write(s.A)
 	case api.Del:
 		r.view.Delete(s.A)
+		r.write(s.A)
 	case api.Skip:
 		if r.register(s.A) == 0 {
 			r.at += s.B
@@ -26,6 +28,13 @@ func (r *Run) do(s api.Step) {
 	default:
 		number := r.number(s)
 		r.become(s.A, number)
+	}
+}
+
+// write notes that the run put or deleted the key.
+func (r *Run) write(key int) {
+	if key >= 0 && key < api.Keys {
+		r.wrote[key] = true
 	}
 }
 

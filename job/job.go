@@ -25,21 +25,18 @@ func Run(steps []api.Step, m []api.Pair, fuel int) (api.Outcome, []api.Pair, api
 	if Check(steps) != api.OK {
 		return api.Outcome{}, nil, api.ErrJob
 	}
-	start, isMap := store.FromPairs(m)
+	values, isMap := store.FromPairs(m)
 	if !isMap {
 		return api.Outcome{}, nil, api.ErrMap
 	}
 	if !isWithin(fuel, 1, api.MaxFuel) {
 		return api.Outcome{}, nil, api.ErrFuel
 	}
-	r := runToEnd(steps, start, fuel)
+	r := runToEnd(steps, values, fuel)
+	r.Apply(&values)
 	state := r.State()
 	told := r.Told()
-	behind := start
-	if state == api.Committed {
-		behind = r.View()
-	}
-	return api.Outcome{State: state, Told: told, Tries: 1}, behind.Pairs(), api.OK
+	return api.Outcome{State: state, Told: told, Tries: 1}, values.Pairs(), api.OK
 }
 
 // runToEnd is the job's run, ended: behind the last step that the fuel allows

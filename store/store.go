@@ -52,6 +52,16 @@ func (m *Map) Delete(key int) {
 	m.values[key] = 0
 }
 
+// Take gives the key the value that it has in from, or none; a key that is
+// none is left alone.
+func (m *Map) Take(key int, from *Map) {
+	if key < 0 || key >= api.Keys {
+		return
+	}
+	m.has[key] = from.has[key]
+	m.values[key] = from.values[key]
+}
+
 // Value is the key's value; 0, if it has none.
 func (m *Map) Value(key int) int {
 	if key < 0 || key >= api.Keys {

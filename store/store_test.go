@@ -69,13 +69,32 @@ func TestPutAndDelete(t *testing.T) {
 	}
 }
 
+func TestTake(t *testing.T) {
+	from, _ := store.FromPairs(pairs(0, 5, 3, 0, 15, 9))
+	m, _ := store.FromPairs(pairs(0, 1, 1, 1, 2, 2))
+	for _, key := range []int{0, 1, 3, 4, 15} {
+		m.Take(key, &from)
+	}
+	if got, want := m.Pairs(), pairs(0, 5, 2, 2, 3, 0, 15, 9); !slices.Equal(got, want) {
+		t.Errorf("what was taken made the map %v, want %v", got, want)
+	}
+	if m.Sum(0, 1) != 5 {
+		t.Errorf("a key that has none any more still counts: the sum is %d", m.Sum(0, 1))
+	}
+	m.Put(0, 6)
+	if got := from.Pairs(); !slices.Equal(got, pairs(0, 5, 3, 0, 15, 9)) {
+		t.Errorf("the map that was taken from is now %v", got)
+	}
+}
+
 func TestKeysThatAreNone(t *testing.T) {
 	for _, key := range outside {
 		m, _ := store.FromPairs(full())
 		m.Put(key, 1)
 		m.Delete(key)
+		m.Take(key, &store.Map{})
 		if got := m.Pairs(); !slices.Equal(got, full()) {
-			t.Errorf("behind Put and Delete of %d: %v", key, got)
+			t.Errorf("behind Put, Delete and Take of %d: %v", key, got)
 		}
 		if got := m.Value(key); got != 0 {
 			t.Errorf("Value(%d) = %d, want 0", key, got)
