@@ -26,6 +26,23 @@ func tells(value int) []api.Step {
 	return []api.Step{step(api.Const, 0, value), step(api.Emit, 0)}
 }
 
+// raises is a job of four steps that makes the key's value one more.
+func raises(key int) []api.Step {
+	return []api.Step{step(api.Get, 0, key), step(api.Const, 1, 1), step(api.Add, 0, 1), step(api.Put, key, 0)}
+}
+
+// touches is a job that gets some keys and then puts some.
+func touches(read, wrote []int) []api.Step {
+	steps := []api.Step{}
+	for _, key := range read {
+		steps = append(steps, step(api.Get, 0, key))
+	}
+	for _, key := range wrote {
+		steps = append(steps, step(api.Put, key, 1))
+	}
+	return steps
+}
+
 // noJob is a list of steps that is no job.
 func noJob() []api.Step { return []api.Step{step(api.Const, 0, 1000)} }
 
@@ -68,6 +85,35 @@ func wantAttempt(t *testing.T, d *desk.Desk, worker, ticket, steps int) {
 	wantPick(t, d, worker, api.Ended, ticket)
 }
 
+// finish picks the worker until its attempt of the job has ended, and is what
+// the last pick told.
+func finish(t *testing.T, d *desk.Desk, worker, ticket int) api.Note {
+	t.Helper()
+	for {
+		note, e := d.Pick(worker)
+		if e != api.OK || note.Ticket != ticket {
+			t.Fatalf("Pick(%d) = %+v, %d, want the ticket %d", worker, note, e, ticket)
+		}
+		if note.Kind != api.Stepped {
+			return note
+		}
+	}
+}
+
+func wantEnded(t *testing.T, d *desk.Desk, worker, ticket int) {
+	t.Helper()
+	if got := finish(t, d, worker, ticket); got != (api.Note{Kind: api.Ended, Ticket: ticket}) {
+		t.Fatalf("the attempt of worker %d: %+v, want Ended, the ticket %d", worker, got, ticket)
+	}
+}
+
+func wantRetried(t *testing.T, d *desk.Desk, worker, ticket, partner int) {
+	t.Helper()
+	if got := finish(t, d, worker, ticket); got != (api.Note{Kind: api.Retried, Ticket: ticket, Partner: partner}) {
+		t.Fatalf("the attempt of worker %d: %+v, want Retried, the ticket %d, the partner %d", worker, got, ticket, partner)
+	}
+}
+
 func wantPoll(t *testing.T, d *desk.Desk, ticket, state, tries int, told ...int) {
 	t.Helper()
 	o, e := d.Poll(ticket)
@@ -99,6 +145,13 @@ func wantCancel(t *testing.T, d *desk.Desk, ticket int, errno api.Errno) {
 	t.Helper()
 	if e := d.Cancel(ticket); e != errno {
 		t.Fatalf("Cancel(%d) = %d, want %d", ticket, e, errno)
+	}
+}
+
+func wantKill(t *testing.T, d *desk.Desk, worker int, errno api.Errno) {
+	t.Helper()
+	if e := d.Kill(worker); e != errno {
+		t.Fatalf("Kill(%d) = %d, want %d", worker, e, errno)
 	}
 }
 

@@ -2,62 +2,100 @@ package desk_test
 
 import (
 	"slices"
-	"testing"
 
 	"pivot/api"
-	"pivot/desk"
-	"pivot/engine"
 	"pivot/job"
-	"pivot/store"
 )
 
-// The model is a second reading of the promises P6, P7, P10 and P11: it runs a
-// job at once when it is taken, with the calls of package job, and knows from
-// then on what the worker's picks must tell. It holds for jobs whose attempts
-// are all found good.
+// The model is a second reading of the promises P6 to P12. It runs a job at once
+// when it is taken and knows from then on what the worker's picks must tell; it
+// keeps no queue, but gives every job that waits a place; and it forgets
+// nothing, so that P8 can be read word for word.
 type model struct {
-	config api.Config
-	jobs   []modelJob
-	queue  []int
-	ran    []modelRun // by workers
-	pairs  []api.Pair
+	config      api.Config
+	jobs        []modelJob
+	ran         []modelRun // by workers
+	good        []modelRun // by their numbers, from 1
+	values      values
+	first, last int // the places of the queue that have been given
+	seen        map[string]int
 }
 
 type modelJob struct {
 	steps   []api.Step
 	outcome api.Outcome
+	place   int
+	nothing int // how many attempts came to nothing by P9
+	urgent  int // when it became so; 0, if it is not
 }
 
-// modelRun is what a worker still has to tell; the ticket is 0, if it is idle.
+// modelRun is an attempt; the ticket is 0, if there is none.
 type modelRun struct {
-	ticket  int
-	stepped int
-	outcome api.Outcome
-	behind  []api.Pair
+	ticket, beginning, done int
+	trace
+}
+
+func newModel(c api.Config) *model {
+	return &model{config: c, ran: make([]modelRun, c.Workers), values: noValues(), seen: map[string]int{}}
+}
+
+func (m *model) job(ticket int) *modelJob { return &m.jobs[ticket-1] }
+
+// atTheEnd and ahead give the job a place in the queue.
+func (m *model) atTheEnd(ticket int) {
+	m.last++
+	m.job(ticket).outcome.State = api.Waiting
+	m.job(ticket).place = m.last
+}
+
+func (m *model) ahead(ticket int) {
+	m.first--
+	m.job(ticket).outcome.State = api.Waiting
+	m.job(ticket).place = m.first
+}
+
+// tickets are those of the jobs in the state that are urgent or not.
+func (m *model) tickets(state int, urgent bool) []int {
+	out := []int{}
+	for i, j := range m.jobs {
+		if j.outcome.State == state && (j.urgent != 0) == urgent {
+			out = append(out, i+1)
+		}
+	}
+	return out
 }
 
 func (m *model) submit(steps []api.Step) (int, api.Errno) {
 	switch {
 	case job.Check(steps) != api.OK:
 		return 0, api.ErrJob
-	case len(m.queue) == m.config.Queue:
+	case len(m.tickets(api.Waiting, false))+len(m.tickets(api.Waiting, true)) >= m.config.Queue:
 		return 0, api.ErrFull
 	}
-	m.jobs = append(m.jobs, modelJob{slices.Clone(steps), api.Outcome{State: api.Waiting}})
-	m.queue = append(m.queue, len(m.jobs))
+	m.jobs = append(m.jobs, modelJob{steps: slices.Clone(steps)})
+	m.atTheEnd(len(m.jobs))
 	return len(m.jobs), api.OK
 }
 
-// countSteps tells how often the job's run goes on before it ends.
-func countSteps(steps []api.Step, pairs []api.Pair, fuel int) int {
-	start, _ := store.FromPairs(pairs)
-	r := engine.Begin(start)
-	for n := 0; ; n++ {
-		r.Next(steps, fuel)
-		if r.State() != api.Running {
-			return n
+// next is the ticket of the job that an idle worker takes; 0, if there is none.
+func (m *model) next() int {
+	urgent, running := m.tickets(api.Waiting, true), len(m.tickets(api.Running, true))+len(m.tickets(api.Running, false))
+	switch {
+	case len(m.tickets(api.Running, true)) > 0 || len(urgent) > 0 && running > 0:
+		m.seen["held up"]++
+		return 0
+	case len(urgent) > 0:
+		m.seen["urgent"]++
+		if len(urgent) > 1 {
+			m.seen["several urgent"]++
 		}
+		return slices.MinFunc(urgent, func(a, b int) int { return m.job(a).urgent - m.job(b).urgent })
 	}
+	waiting := m.tickets(api.Waiting, false)
+	if len(waiting) == 0 {
+		return 0
+	}
+	return slices.MinFunc(waiting, func(a, b int) int { return m.job(a).place - m.job(b).place })
 }
 
 func (m *model) pick(worker int) (api.Note, api.Errno) {
@@ -65,33 +103,87 @@ func (m *model) pick(worker int) (api.Note, api.Errno) {
 		return api.Note{}, api.ErrWorker
 	}
 	w := &m.ran[worker]
-	switch {
-	case w.ticket == 0 && len(m.queue) == 0:
-		return api.Note{}, api.OK
-	case w.ticket == 0:
-		ticket := m.queue[0]
-		m.queue = m.queue[1:]
-		j := &m.jobs[ticket-1]
-		j.outcome = api.Outcome{State: api.Running, Tries: 1}
-		outcome, behind, _ := job.Run(j.steps, m.pairs, m.config.Fuel)
-		*w = modelRun{ticket, countSteps(j.steps, m.pairs, m.config.Fuel), outcome, behind}
+	if w.ticket == 0 {
+		ticket := m.next()
+		if ticket == 0 {
+			return api.Note{}, api.OK
+		}
+		j := m.job(ticket)
+		j.outcome.State = api.Running
+		j.outcome.Tries++
+		*w = modelRun{ticket: ticket, beginning: len(m.good), trace: traceOf(j.steps, m.values, m.config.Fuel)}
 		return api.Note{Kind: api.Took, Ticket: ticket}, api.OK
-	case w.stepped > 0:
-		w.stepped--
+	}
+	if w.done < w.stepped {
+		w.done++
 		return api.Note{Kind: api.Stepped, Ticket: w.ticket}, api.OK
 	}
-	note := api.Note{Kind: api.Ended, Ticket: w.ticket}
-	m.jobs[w.ticket-1].outcome = w.outcome
-	m.pairs = w.behind
+	t := *w
 	*w = modelRun{}
-	return note, api.OK
+	return m.end(t), api.OK
+}
+
+// end looks at the attempt.
+func (m *model) end(t modelRun) api.Note {
+	partner, what := m.look(t)
+	m.seen[what]++
+	j := m.job(t.ticket)
+	if partner != 0 {
+		j.nothing++
+		m.atTheEnd(t.ticket)
+		if j.nothing > m.config.Patience {
+			m.last++
+			j.urgent = m.last
+		}
+		return api.Note{Kind: api.Retried, Ticket: t.ticket, Partner: partner}
+	}
+	m.good = append(m.good, t)
+	j.outcome = api.Outcome{State: t.state, Told: t.told, Tries: j.outcome.Tries}
+	for key := range m.values {
+		if t.wrote&(1<<key) != 0 {
+			m.values[key] = t.sees[key]
+		}
+	}
+	return api.Note{Kind: api.Ended, Ticket: t.ticket}
+}
+
+// look is P8: the ticket of the partner, 0 if there is none, and the case.
+func (m *model) look(t modelRun) (int, string) {
+	at := func(number int) modelRun { return m.good[number-1] }
+	for u := len(m.good); u > t.beginning; u-- {
+		if at(u).wrote&t.wrote != 0 {
+			return at(u).ticket, "CLASH"
+		}
+	}
+	for v := t.beginning + 1; v <= len(m.good); v++ {
+		for u := v; u <= len(m.good); u++ {
+			if at(v).wrote&t.read != 0 && at(u).read&t.wrote != 0 {
+				return at(v).ticket, "PIVOT"
+			}
+		}
+	}
+	spared := false
+	for u := t.beginning + 1; u <= len(m.good); u++ {
+		for v := at(u).beginning + 1; v < u; v++ {
+			if at(u).wrote&t.read != 0 && at(v).wrote&at(u).read != 0 {
+				if t.wrote != 0 || v <= t.beginning {
+					return at(u).ticket, "OUTER"
+				}
+				spared = true
+			}
+		}
+	}
+	if spared {
+		return 0, "good, as nothing was written"
+	}
+	return 0, "good"
 }
 
 func (m *model) poll(ticket int) (api.Outcome, api.Errno) {
 	if ticket < 1 || ticket > len(m.jobs) {
 		return api.Outcome{}, api.ErrTicket
 	}
-	return m.jobs[ticket-1].outcome, api.OK
+	return m.job(ticket).outcome, api.OK
 }
 
 func (m *model) cancel(ticket int) api.Errno {
@@ -102,8 +194,7 @@ func (m *model) cancel(ticket int) api.Errno {
 	if o.State > api.Running {
 		return api.ErrDone
 	}
-	m.jobs[ticket-1].outcome = api.Outcome{State: api.Cancelled, Tries: o.Tries}
-	m.queue = slices.DeleteFunc(slices.Clone(m.queue), func(other int) bool { return other == ticket })
+	m.job(ticket).outcome.State = api.Cancelled
 	for i := range m.ran {
 		if m.ran[i].ticket == ticket {
 			m.ran[i] = modelRun{}
@@ -112,138 +203,19 @@ func (m *model) cancel(ticket int) api.Errno {
 	return api.OK
 }
 
-// numbers is a line of numbers that look unordered and are the same at every
-// test run.
-type numbers struct{ state uint64 }
-
-func (n *numbers) below(limit int) int {
-	n.state = n.state*6364136223846793005 + 1442695040888963407
-	return int((n.state >> 33) % uint64(limit))
-}
-
-// anyJob is a list of steps, mostly a job. If it may not write, it has neither
-// Put nor Del.
-func anyJob(r *numbers, mayWrite bool) []api.Step {
-	steps := make([]api.Step, r.below(9))
-	for i := range steps {
-		a, b, key := r.below(2), r.below(2), r.below(4)
-		kinds := []api.Step{
-			step(api.Const, a, []int{0, 1, 7, 999}[r.below(4)]), step(api.Get, a, key), step(api.Sum, a, key, key+r.below(12)), step(api.Count, a, key, 15),
-			step(api.Add, a, b), step(api.Sub, a, b), step(api.Emit, a), step(api.Emit, b), step(api.Put, key, a), step(api.Put, key, b), step(api.Del, key),
-		}
-		if !mayWrite {
-			kinds = kinds[:8]
-		}
-		steps[i] = kinds[r.below(len(kinds))]
-		switch r.below(16) {
-		case 0:
-			steps[i] = step(api.Skip, a, 1+r.below(3))
-		case 1:
-			steps[i] = step(api.Back, a, 1+r.below(3))
-		case 2:
-			steps[i] = step(api.Undo)
-		}
+func (m *model) kill(worker int) api.Errno {
+	if worker < 0 || worker >= m.config.Workers {
+		return api.ErrWorker
 	}
-	if r.below(20) == 0 {
-		op := []int{0, api.Const, api.Get, api.Emit, api.Undo, 13}[r.below(6)]
-		steps = append(steps, step(op, r.below(6)-1, r.below(18)-1, r.below(3)-1))
+	ticket := m.ran[worker].ticket
+	if ticket == 0 {
+		return api.ErrIdle
 	}
-	return steps
-}
-
-// oneOf is mostly a number from least to greatest, or beside, or far outside.
-func oneOf(r *numbers, least, greatest int) int {
-	if r.below(12) == 0 {
-		return outside()[r.below(len(outside()))]
+	m.ran[worker] = modelRun{}
+	m.ahead(ticket)
+	if j := m.job(ticket); j.urgent != 0 {
+		m.seen["urgent, killed"]++
+		j.urgent = m.first
 	}
-	return least - 1 + r.below(greatest-least+3)
-}
-
-// pair is a desk and the model of it.
-type pair struct {
-	d        *desk.Desk
-	m        *model
-	mayWrite bool
-	seen     map[string]int
-}
-
-func newPair(t *testing.T, r *numbers, workers int) *pair {
-	c := api.Config{Workers: workers, Queue: 1 + r.below(8), Fuel: 1 + r.below(12), Patience: r.below(6)}
-	return &pair{open(t, c), &model{config: c, ran: make([]modelRun, workers)}, workers == 1, map[string]int{}}
-}
-
-// call makes one call of the desk and of the model, which must answer the
-// same; what was handed in and what came out is spoiled behind it.
-func (p *pair) call(t *testing.T, r *numbers) {
-	t.Helper()
-	switch r.below(20) {
-	case 0, 1, 2:
-		steps := anyJob(r, p.mayWrite)
-		want, wantE := p.m.submit(steps)
-		wantSubmit(t, p.d, steps, want, wantE)
-		p.seen["Submit"+string(rune('0'+wantE))]++
-		spoil(steps, step(api.Undo))
-	case 3:
-		ticket := oneOf(r, max(1, len(p.m.jobs)-6), len(p.m.jobs)+1)
-		want := p.m.cancel(ticket)
-		wantCancel(t, p.d, ticket, want)
-		p.seen["Cancel"+string(rune('0'+want))]++
-	default:
-		worker := oneOf(r, 0, p.m.config.Workers-1)
-		want, wantE := p.m.pick(worker)
-		if got, e := p.d.Pick(worker); got != want || e != wantE {
-			t.Fatalf("Pick(%d) = %+v, %d, want %+v, %d", worker, got, e, want, wantE)
-		}
-		p.seen["Pick"+string(rune('0'+wantE))+"kind"+string(rune('0'+want.Kind))]++
-	}
-}
-
-// compare asks for some jobs and the map.
-func (p *pair) compare(t *testing.T, r *numbers) {
-	t.Helper()
-	newest := len(p.m.jobs)
-	for _, ticket := range []int{newest + 1, newest, newest - 1, newest - 2, newest - 3, oneOf(r, 1, newest)} {
-		want, wantE := p.m.poll(ticket)
-		got, e := p.d.Poll(ticket)
-		if e != wantE || got.State != want.State || got.Tries != want.Tries || !slices.Equal(got.Told, want.Told) {
-			t.Fatalf("Poll(%d) = %+v, %d, want %+v, %d", ticket, got, e, want, wantE)
-		}
-		spoil(got.Told, -77)
-		p.seen["Poll"+string(rune('0'+wantE))+"state"+string(rune('0'+want.State))]++
-	}
-	pairs := p.d.Map()
-	if !slices.Equal(pairs, p.m.pairs) {
-		t.Fatalf("Map() = %v, want %v", pairs, p.m.pairs)
-	}
-	spoil(pairs, api.Pair{Key: -77, Value: -77})
-}
-
-// P1, P2, P6, P7, P10, P11: many calls, wrong ones among them, of several desks
-// in turn. One worker runs jobs of all kinds; several run jobs that write
-// nothing, whose attempts are always found good.
-func TestManyCallsAgainstTheModel(t *testing.T) {
-	seen := map[string]int{}
-	for round := range 60 {
-		r := &numbers{state: uint64(round)}
-		desks := []*pair{newPair(t, r, 1), newPair(t, r, 1), newPair(t, r, 2+r.below(3))}
-		for range 3000 {
-			p := desks[r.below(len(desks))]
-			p.call(t, r)
-			desks[r.below(len(desks))].compare(t, r)
-		}
-		for _, p := range desks {
-			for what, n := range p.seen {
-				seen[what] += n
-			}
-		}
-	}
-	// Were it otherwise, the loop would not have tried what it should.
-	for _, what := range []string{
-		"Submit0", "Submit1", "Submit5", "Cancel0", "Cancel8", "Cancel9", "Pick6kind0", "Pick0kind0", "Pick0kind1", "Pick0kind2", "Pick0kind3",
-		"Poll8state0", "Poll0state1", "Poll0state2", "Poll0state3", "Poll0state4", "Poll0state5", "Poll0state6",
-	} {
-		if seen[what] < 200 {
-			t.Errorf("%s was seen %d times only", what, seen[what])
-		}
-	}
+	return api.OK
 }

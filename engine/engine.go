@@ -3,6 +3,7 @@ package engine
 
 import (
 	"pivot/api"
+	"pivot/keys"
 	"pivot/store"
 )
 
@@ -14,7 +15,8 @@ type Run struct {
 	done      int // how many steps it has done
 	registers [api.Regs]int
 	view      store.Map
-	wrote     [api.Keys]bool // the keys that it put or deleted
+	read      keys.Set // the keys for which it asked while they were not in wrote
+	wrote     keys.Set // the keys that it put or deleted
 	told      []int
 }
 
@@ -33,15 +35,28 @@ func (r *Run) Told() []int {
 	return append([]int{}, r.told...)
 }
 
+// Read is the keys that the run read: those that it saw as they were when it
+// began.
+func (r *Run) Read() keys.Set {
+	return r.read
+}
+
+// Wrote is the keys that the run put or deleted; none, unless it ended as
+// Committed.
+func (r *Run) Wrote() keys.Set {
+	if r.state != api.Committed {
+		return keys.Set{}
+	}
+	return r.wrote
+}
+
 // Apply does to m what the run put and deleted, if it ended as Committed. The
 // other keys stay as they are in m: others may have changed them since the run
 // began.
 func (r *Run) Apply(m *store.Map) {
-	if r.state != api.Committed {
-		return
-	}
-	for key, wrote := range r.wrote {
-		if wrote {
+	wrote := r.Wrote()
+	for key := 0; key < api.Keys; key++ {
+		if wrote.Has(key) {
 			m.Take(key, &r.view)
 		}
 	}

@@ -7,6 +7,7 @@ import (
 
 	"pivot/api"
 	"pivot/engine"
+	"pivot/keys"
 	"pivot/store"
 )
 
@@ -142,6 +143,82 @@ func TestKeysThatAreNone(t *testing.T) {
 		}
 		if got := behind(r); r.State() != committed || !slices.Equal(got, []api.Pair{{Key: 15, Value: 0}}) {
 			t.Errorf("with the key %d: %d, the map %v", n, r.State(), got)
+		}
+	}
+}
+
+// keysOf are the keys of a set, rising.
+func keysOf(s keys.Set) []int {
+	out := []int{}
+	for key := range 16 {
+		if s.Has(key) {
+			out = append(out, key)
+		}
+	}
+	return out
+}
+
+// ran is the job's run over 2: 9999 and 3: 1, ended.
+func ran(steps []api.Step, fuel int) engine.Run {
+	start, _ := store.FromPairs([]api.Pair{{Key: 2, Value: 9999}, {Key: 3, Value: 1}})
+	r := engine.Begin(start)
+	for r.State() == running {
+		r.Next(steps, fuel)
+	}
+	return r
+}
+
+// P8: which keys a run read and wrote. It does not read what it has put or
+// deleted itself by then, and wrote nothing if it did not end as Committed.
+func TestWhatARunReadAndWrote(t *testing.T) {
+	get := func(key int) api.Step { return api.Step{Op: api.Get, B: key} }
+	put := func(key int) api.Step { return api.Step{Op: api.Put, A: key} }
+	del := func(key int) api.Step { return api.Step{Op: api.Del, A: key} }
+	sum := func(first, last int) api.Step { return api.Step{Op: api.Sum, B: first, C: last} }
+	count := func(first, last int) api.Step { return api.Step{Op: api.Count, B: first, C: last} }
+	undo := api.Step{Op: api.Undo}
+	none := []int{}
+	for _, c := range []struct {
+		steps       []api.Step
+		state       int
+		read, wrote []int
+	}{
+		{nil, committed, none, none},
+		{[]api.Step{get(0)}, committed, []int{0}, none},
+		{[]api.Step{get(15), get(3)}, committed, []int{3, 15}, none},
+		{[]api.Step{put(0), put(15)}, committed, none, []int{0, 15}},
+		{[]api.Step{del(4), del(2)}, committed, none, []int{2, 4}},
+		{[]api.Step{sum(4, 6)}, committed, []int{4, 5, 6}, none},
+		{[]api.Step{sum(5, 5)}, committed, []int{5}, none},
+		{[]api.Step{count(1, 3)}, committed, []int{1, 2, 3}, none},
+		{[]api.Step{count(0, 1), count(14, 15)}, committed, []int{0, 1, 14, 15}, none},
+		{[]api.Step{put(5), get(5), sum(4, 6), count(5, 7)}, committed, []int{4, 6, 7}, []int{5}},
+		{[]api.Step{del(5), get(5), sum(4, 6), count(5, 7)}, committed, []int{4, 6, 7}, []int{5}},
+		{[]api.Step{put(5), del(5), put(6), sum(5, 6)}, committed, none, []int{5, 6}},
+		{[]api.Step{get(5), put(5), get(5)}, committed, []int{5}, []int{5}},
+		{[]api.Step{sum(4, 6), del(5)}, committed, []int{4, 5, 6}, []int{5}},
+		{[]api.Step{get(1), put(1), put(3), get(3), undo, get(4)}, undone, []int{1}, none},
+		{[]api.Step{put(5), sum(1, 5)}, faulted, []int{1, 2, 3, 4}, none},
+		{[]api.Step{put(5), put(6), get(7)}, committed, []int{7}, []int{5, 6}},
+		{[]api.Step{put(5), get(6), get(7), get(8), get(9), get(10), get(11), get(12), get(13)}, faulted, []int{6, 7, 8, 9, 10, 11, 12}, none},
+		{[]api.Step{{Op: api.Skip, A: 0, B: 2}, get(1), put(2), get(3)}, committed, []int{3}, none},
+		{[]api.Step{{Op: api.Const, A: 1, B: 5}, {Op: api.Add, A: 1, B: 2}, {Op: api.Sub, A: 1, B: 2}, {Op: api.Emit, A: 3}}, committed, none, none},
+	} {
+		r := ran(c.steps, 8)
+		if read, wrote := keysOf(r.Read()), keysOf(r.Wrote()); r.State() != c.state || !slices.Equal(read, c.read) || !slices.Equal(wrote, c.wrote) {
+			t.Errorf("%v: %d, read %v, wrote %v, want %d, %v, %v", c.steps, r.State(), read, wrote, c.state, c.read, c.wrote)
+		}
+	}
+}
+
+// Until a run has ended, it has written nothing.
+func TestWhatARunWroteOnItsWay(t *testing.T) {
+	r := engine.Begin(store.Map{})
+	steps := []api.Step{{Op: api.Put, A: 4}, {Op: api.Get, B: 5}}
+	for _, want := range [][]int{{}, {}, {4}, {4}} {
+		r.Next(steps, 9)
+		if got := keysOf(r.Wrote()); !slices.Equal(got, want) {
+			t.Errorf("wrote %v, want %v", got, want)
 		}
 	}
 }

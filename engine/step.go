@@ -8,10 +8,10 @@ func (r *Run) do(s api.Step) {
 	case api.Put:
 		value := r.register(s.B)
 		r.view.Put(s.A, value)
-		r.write(s.A)
+		r.wrote.Add(s.A)
 	case api.Del:
 		r.view.Delete(s.A)
-		r.write(s.A)
+		r.wrote.Add(s.A)
 	case api.Skip:
 		if r.register(s.A) == 0 {
 			r.at += s.B
@@ -31,25 +31,21 @@ func (r *Run) do(s api.Step) {
 	}
 }
 
-// write notes that the run put or deleted the key.
-func (r *Run) write(key int) {
-	if key >= 0 && key < api.Keys {
-		r.wrote[key] = true
-	}
-}
-
 // number is what register A becomes at a step that sets it, be it a value or
-// not.
+// not. The keys for which the step asks are noted, also if it is a fault.
 func (r *Run) number(s api.Step) int {
 	a := r.register(s.A)
 	switch s.Op {
 	case api.Const:
 		return s.B
 	case api.Get:
+		r.ask(s.B, s.B)
 		return r.view.Value(s.B)
 	case api.Sum:
+		r.ask(s.B, s.C)
 		return r.view.Sum(s.B, s.C)
 	case api.Count:
+		r.ask(s.B, s.C)
 		return r.view.Count(s.B, s.C)
 	case api.Add:
 		return a + r.register(s.B)
@@ -57,6 +53,16 @@ func (r *Run) number(s api.Step) int {
 		return a - r.register(s.B)
 	}
 	return a
+}
+
+// ask notes that the run reads the keys from first to last, but for those that
+// it put or deleted itself: what it sees there is its own.
+func (r *Run) ask(first, last int) {
+	for key := 0; key < api.Keys; key++ {
+		if first <= key && key <= last && !r.wrote.Has(key) {
+			r.read.Add(key)
+		}
+	}
 }
 
 // become sets a register; a number that is no value is a fault.
